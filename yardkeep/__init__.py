@@ -1,0 +1,1 @@
+"""Yardkeep: a railway yard in which nothing meets."""
