@@ -3,8 +3,9 @@
 import inspect
 import unittest
 
+from tests.helper import every_kind, ring, small_yard, their_joins, their_signals
 from yardkeep.errors import BadEnd, BadName, TooMany
-from yardkeep.parts import Cross, Gate, Part, Plain, Points, Stop
+from yardkeep.parts import Cross, Gate, Plain, Points, Stop
 from yardkeep.tracks import Tracks
 
 WHATEVER = ["", "nosuch", "P", "p ", "abcdefg", None, 0, 1, True, False, 1.5, [], ["p"], (), ("p",), ("p", "a"),
@@ -13,32 +14,8 @@ NO_ENDS = [("p", "c"), ("p", ""), ("p", "A"), ("nosuch", "a"), ("", "a"), ("", "
            ("a", "p"), ("x", "stem")]
 
 
-def every_kind():
-    return [Gate("g"), Plain("p"), Points("w"), Cross("x"), Stop("s"), Plain("q"), Part("r"), Stop("t")]
-
-
-def their_joins():
-    return [(("g", "a"), ("p", "a")), (("w", "stem"), ("p", "b")), (("w", "left"), ("x", "a")),
-            (("x", "c"), ("w", "right")), (("x", "b"), ("s", "a")), (("x", "d"), ("q", "a")),
-            (("q", "b"), ("r", "a")), (("t", "a"), ("r", "b"))]
-
-
-def their_signals():
-    return [("sp", "p", "b"), ("g", "g", "a"), ("z1", "s", "a"), ("a1", "r", "a"), ("m", "p", "a")]
-
-
-def small_yard():
-    return Tracks(every_kind(), their_joins(), their_signals())
-
-
 def two(signals=None):
     return Tracks([Stop("s"), Gate("g")], [(("s", "a"), ("g", "a"))], signals)
-
-
-def ring(count):
-    """A ring of plain parts, in which each part has two ends that may bear a signal."""
-    names = ["p" + str(k) for k in range(count)]
-    return [Plain(name) for name in names], [((names[k - 1], "b"), (names[k], "a")) for k in range(count)]
 
 
 def ring_signals(count):
