@@ -122,6 +122,11 @@ class Code(unittest.TestCase):
                 if isinstance(node.func, ast.Attribute):
                     self.assertIn(node.func.attr, METHODS + own, (name, node.lineno))
 
+    def test_one_lambda_a_line(self):
+        for name, tree in trees().items():
+            rows = [node.lineno for node in nodes(tree, ast.Lambda)]
+            self.assertEqual(len(rows), len(set(rows)), name)
+
     def test_no_name_is_a_method_here_and_a_value_there(self):
         own = [method for tree in trees().values() for place, method in methods(tree)]
         values = [field for tree in trees().values() for field in fields(tree)]

@@ -1,7 +1,7 @@
 """The tracks: parts joined end with end, and the signals that stand there."""
 
 from yardkeep.errors import BadEnd, BadName, TooMany
-from yardkeep.parts import is_name
+from yardkeep.parts import Gate, Points, is_name
 
 MOST_PARTS = 40
 MOST_SIGNALS = 40
@@ -114,3 +114,11 @@ class Tracks:
         if not is_name(signal) or signal not in self.post_of:
             raise BadName("there is no signal of this name")
         return self.post_of[signal]
+
+
+def gates_of(tracks):
+    return [name for name in tracks.names() if isinstance(tracks.named(name), Gate)]
+
+
+def points_of(tracks):
+    return [name for name in tracks.names() if isinstance(tracks.named(name), Points)]
