@@ -1,7 +1,14 @@
-"""Yards that several tests ask of."""
+"""Yards that several tests ask of, things that are no names or lengths, and what came of an asking."""
 
+from yardkeep.errors import YardError
 from yardkeep.parts import Cross, Gate, Part, Plain, Points, Stop
+from yardkeep.routes import goal_of, routes_from
 from yardkeep.tracks import Tracks
+from yardkeep.yards import Yard
+
+NO_NAMES = [None, True, False, 0, 1, "", "T", "1t", "t t", "t_", "sevenup", "\u00e9", "t\n", [], ["t"], ("t",), {},
+            {"t": True}, {"t"}]
+NO_LENGTHS = [0, -1, 5, 6, 100, -4, True, False, None, "1", "", [], [1], (2,), {}]
 
 
 def every_kind():
@@ -65,6 +72,27 @@ def eight(signals):
     return Tracks([Gate("g"), Cross("x"), Plain("l"), Stop("s")], joins, signals)
 
 
+def fork():
+    """From the gate g by p to the points w; left of them the stop s, right of them q and the gate h."""
+    joins = [(("g", "a"), ("p", "a")), (("p", "b"), ("w", "stem")), (("w", "left"), ("s", "a")),
+             (("w", "right"), ("q", "a")), (("q", "b"), ("h", "a"))]
+    signals = [("in", "g", "a"), ("up", "p", "b"), ("back", "p", "a"), ("hi", "h", "a")]
+    return Tracks([Plain("q"), Gate("h"), Points("w"), Gate("g"), Stop("s"), Plain("p")], joins, signals)
+
+
+def station():
+    """From the gate g by m and the points w to p or q, from both by the points v and k to the gate h; the points y
+    lead from q to the stop s too."""
+    joins = [(("g", "a"), ("m", "a")), (("m", "b"), ("w", "stem")), (("w", "left"), ("p", "a")),
+             (("w", "right"), ("q", "a")), (("p", "b"), ("v", "left")), (("q", "b"), ("y", "stem")),
+             (("y", "left"), ("v", "right")), (("y", "right"), ("s", "a")), (("v", "stem"), ("k", "a")),
+             (("k", "b"), ("h", "a"))]
+    signals = [("gi", "g", "a"), ("hi", "h", "a"), ("so", "s", "a")]
+    signals += [(part + end, part, end) for part in "mpqk" for end in "ab"]
+    parts = [Plain(name) for name in "qpkm"] + [Points(name) for name in "ywv"] + [Stop("s"), Gate("h"), Gate("g")]
+    return Tracks(parts, joins, signals)
+
+
 def some_yards():
     """Yards with signals, of many forms."""
     both = [("in", "g", "a"), ("out", "s", "a")]
@@ -88,3 +116,34 @@ def drawn_yard(chance):
             bearing = [(part.name, end) for part in parts if part.bears() for end in part.ends()]
             posts = [end for end in bearing if chance.random() < 0.4]
             return Tracks(parts, joins, [("s" + str(k), end[0], end[1]) for k, end in enumerate(posts)])
+
+
+def way(tracks, signal, goal):
+    """The first route from a signal to a goal."""
+    return [route for route in routes_from(tracks, signal) if goal_of(route) == goal][0]
+
+
+def outcome(ask, *handed):
+    """What came of an asking: ("told", value), or the refusal's name, with its part where it has one."""
+    try:
+        return ("told", ask(*handed))
+    except YardError as refusal:
+        word = refusal.__class__.__name__
+        return (word, refusal.part) if word in ("Held", "Seen", "Stiff") else (word,)
+
+
+STATION = station()
+TO_M, TO_P, TO_Q = way(STATION, "gi", "m"), way(STATION, "mb", "p"), way(STATION, "mb", "q")
+P_TO_K, Q_TO_K, TO_S, TO_H = [way(STATION, *ends) for ends in (("pb", "k"), ("qb", "k"), ("qb", "s"), ("kb", "h"))]
+H_TO_K, K_TO_P, K_TO_Q = way(STATION, "hi", "k"), way(STATION, "ka", "p"), way(STATION, "ka", "q")
+
+
+def yard_with(*routes, length=1, went=0):
+    """A station to whose gate g the train t came, for which these ways were set, and which then went on so often."""
+    yard = Yard(STATION)
+    yard.come("t", length, "g")
+    for route in routes:
+        yard.set_way("t", route)
+    for k in range(went):
+        yard.go("t")
+    return yard

@@ -4,23 +4,12 @@ import inspect
 import random
 import unittest
 
-from tests.helper import drawn_yard, eight, line, loop, ring, some_yards
+from tests.helper import NO_LENGTHS, NO_NAMES, drawn_yard, eight, fork, line, loop, ring, some_yards
+from tests.words import WorldWords
 from yardkeep.errors import BadEnd, BadName, NoTrain, TooMany, YardError
-from yardkeep.parts import Cross, Gate, Part, Plain, Points, Stop
+from yardkeep.parts import Gate, Part, Points, Stop
 from yardkeep.tracks import Tracks
 from yardkeep.world import Train, World
-
-NO_NAMES = [None, True, False, 0, 1, "", "T", "1t", "t t", "t_", "sevenup", "\u00e9", "t\n", [], ["t"], ("t",), {},
-            {"t": True}, {"t"}]
-NO_LENGTHS = [0, -1, 5, 6, 100, -4, True, False, None, "1", "", [], [1], (2,), {}]
-
-
-def fork():
-    """From the gate g by p to the points w; left of them the stop s, right of them q and the gate h."""
-    joins = [(("g", "a"), ("p", "a")), (("p", "b"), ("w", "stem")), (("w", "left"), ("s", "a")),
-             (("w", "right"), ("q", "a")), (("q", "b"), ("h", "a"))]
-    signals = [("in", "g", "a"), ("up", "p", "b"), ("back", "p", "a"), ("hi", "h", "a")]
-    return Tracks([Plain("q"), Gate("h"), Points("w"), Gate("g"), Stop("s"), Plain("p")], joins, signals)
 
 
 def free(signal):
@@ -635,70 +624,6 @@ class Told(unittest.TestCase):
         self.assertEqual(told_of(two), ([], [], [("w", "left")], [(part, False) for part in "ghpqsw"], []))
 
 
-def led(tracks, lies, spot):
-    """Point 4, kind by kind."""
-    part, end = spot
-    kind = tracks.named(part)
-    if isinstance(kind, Points):
-        return {"stem": lies[part], lies[part]: "stem"}.get(end, "")
-    if isinstance(kind, Cross):
-        return {"a": "b", "b": "a", "c": "d", "d": "c"}.get(end, "")
-    if isinstance(kind, Stop):
-        return {"": "a"}.get(end, "")
-    return {"a": "b", "b": "a"}.get(end, "")
-
-
-class Words:
-    """Points 12 to 14, word by word."""
-    def __init__(self, tracks):
-        self.tracks = tracks
-        self.lies = dict([(name, "left") for name in tracks.names() if isinstance(tracks.named(name), Points)])
-        self.long, self.spots, self.bad = {}, {}, []
-
-    def stands(self, part):
-        return [name for name in self.spots if part in [spot[0] for spot in self.spots[name]]]
-
-    def come(self, name, long, gate):
-        if self.stands(gate):
-            self.bad.append(("crash", gate))
-        else:
-            self.long[name], self.spots[name] = long, [(gate, "")]
-
-    def go(self, name, passed):
-        head = self.spots[name][-1]
-        out = led(self.tracks, self.lies, head)
-        if out == "":
-            return "end"
-        if self.tracks.signal_at((head[0], out)) != "" and not passed:
-            return "stop"
-        there = self.tracks.beyond((head[0], out))
-        word = "went"
-        if self.stands(there[0]):
-            word = "crash"
-        elif led(self.tracks, self.lies, there) == "" and not isinstance(self.tracks.named(there[0]), Stop):
-            word = "off"
-        if word != "went":
-            self.bad.append((word, there[0]))
-            return word
-        self.spots[name].append(there)
-        if len(self.spots[name]) > self.long[name]:
-            self.spots[name].pop(0)
-        return word
-
-    def about(self, name):
-        self.spots[name] = [(part, led(self.tracks, self.lies, (part, end))) for part, end in self.spots[name]][::-1]
-
-    def turn(self, points, lie):
-        if self.lies[points] != lie and self.stands(points):
-            self.bad.append(("split", points))
-        self.lies[points] = lie
-
-    def told(self):
-        names = sorted(self.spots)
-        return (names, [self.spots[name] for name in names], sorted(self.lies.items()),
-                [(part, self.stands(part) != []) for part in self.tracks.names()], self.bad)
-
-
 class AsTheWordsSay(unittest.TestCase):
     def deed(self, chance, tracks, world, words):
         gates = [name for name in tracks.names() if isinstance(tracks.named(name), Gate)]
@@ -734,7 +659,7 @@ class AsTheWordsSay(unittest.TestCase):
         yards = [tracks for tracks in some_yards() + [fork()] + [drawn_yard(chance) for k in range(60)]
                  if [name for name in tracks.names() if isinstance(tracks.named(name), Gate)]]
         for tracks in yards:
-            world, words = World(tracks), Words(tracks)
+            world, words = World(tracks), WorldWords(tracks)
             for k in range(120):
                 kind = self.deed(chance, tracks, world, words)
                 found[kind] = found.get(kind, 0) + 1

@@ -122,3 +122,7 @@ def gates_of(tracks):
 
 def points_of(tracks):
     return [name for name in tracks.names() if isinstance(tracks.named(name), Points)]
+
+
+def lies_at_first(tracks):
+    return dict([(points, "left") for points in points_of(tracks)])

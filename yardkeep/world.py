@@ -1,28 +1,9 @@
 """The world: where trains stand and how points lie, as it is, and the accidents."""
 
-from yardkeep.errors import BadEnd, BadName, NoTrain, TooMany
+from yardkeep.checks import refuse_gate, refuse_length, refuse_lie
+from yardkeep.errors import NoTrain
 from yardkeep.parts import Stop
-from yardkeep.tracks import gates_of, points_of, refuse_name
-
-LONGEST_TRAIN = 4
-
-
-def refuse_gate(tracks, gate):
-    if gate not in gates_of(tracks):
-        raise BadEnd("there is no gate of this name")
-
-
-def refuse_length(long):
-    # For Python True is a whole number too, and it lies between 1 and 4.
-    if not isinstance(long, int) or isinstance(long, bool) or not 1 <= long <= LONGEST_TRAIN:
-        raise TooMany("a train is 1 to 4 parts long")
-
-
-def refuse_lie(tracks, points, lie):
-    if points not in points_of(tracks):
-        raise BadName("there are no points of this name")
-    if lie not in tracks.named(points).lies():
-        raise BadName("points have no such lie")
+from yardkeep.tracks import lies_at_first, refuse_name
 
 
 class Train:
@@ -35,7 +16,7 @@ class Train:
 class World:
     def __init__(self, tracks):
         self.tracks = tracks
-        self.lie_of = dict([(points, "left") for points in points_of(tracks)])
+        self.lie_of = lies_at_first(tracks)
         self.train_of = {}
         self.mishaps = []
 
